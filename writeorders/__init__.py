@@ -1,0 +1,1 @@
+"""Writeorders: pages written in any order, and nothing broken."""
