@@ -42,3 +42,24 @@ def no_whole_numbers():
         range(3), object(), Prickly(), int, len, lambda: 3, Ellipsis, NotImplemented, ValueError(1),
         cyclic_list(), cyclic_tuple(),
     ]
+
+
+def deep_tuple(depth=20):
+    """Tuples so many within one another."""
+    thing = "a"
+    for _ in range(depth):
+        thing = (thing,)
+    return thing
+
+
+def deep_list(depth=20):
+    thing = "a"
+    for _ in range(depth):
+        thing = [thing]
+    return thing
+
+
+def things_of_any_kind():
+    """Things of which none is a path, a deed or a tree."""
+    others = [0, -1, 7, SIXTY_FIGURES, -SIXTY_FIGURES, Unhashable(1), "abcdefgh", "x" * 9000, deep_tuple(), deep_list()]
+    return [thing for thing in no_whole_numbers() if not (isinstance(thing, tuple) and len(thing) == 0)] + others
