@@ -9,6 +9,7 @@ from tests.small_images import (
     EMPTY, any_image, come_to_by_words, file, file_page, folder, folder_page, image_of, links_by_words, many_images,
     names_by_words, sound_image,
 )
+from tests.systems import any_deed, any_first, refused
 from tests.test_changes import closed_by_words
 from tests.things import SIXTY_FIGURES
 from writeorders.changes import closed_of, goes_along, is_closed, put_on
@@ -16,6 +17,7 @@ from writeorders.errors import Broken, There, Within, Wrong
 from writeorders.images import disk_pages, first_image, is_image, slots_of, with_slots
 from writeorders.looker import breaks, leaks
 from writeorders.stops import put_by, tree_of, written_of
+from writeorders.system import System
 from writeorders.trees import Tree
 
 
@@ -361,57 +363,60 @@ class PutBy(unittest.TestCase):
             self.assertIsNot(put_by(FIRST, CHANGES, image), put_by(FIRST, CHANGES, image))
 
 
-class StandIn:
-    """What a system tells of its changes."""
-
-    def __init__(self, changes, written):
-        self._changes = changes
-        self._written = written
-
-    def changes(self):
-        return list(self._changes)
-
-    def is_written(self, number):
-        return number in self._written
-
-
 class WrittenOf(unittest.TestCase):
+    def begun(self):
+        system = System(FIRST)
+        system.do(("make", ("a",)))
+        system.do(("put", ("a",), 0, "x"))
+        return system
+
     def test_those_that_are_written_rising(self):
-        for written in ([], [0], [3, 0, 1], [13, 2, 7], list(range(14))):
-            system = StandIn(CHANGES, written)
+        system = self.begun()
+        wanted = []
+        self.assertEqual(written_of(system), [])
+        for page, along in ((3, [6]), (2, [1]), (0, [0, 5]), (1, [2, 3, 7]), (1, []), (2, [4])):
+            self.assertEqual(system.write(page), along)
+            wanted = sorted(wanted + along)
             told = written_of(system)
             self.assertIsInstance(told, list)
-            self.assertEqual(told, sorted(written))
-            self.assertEqual(written_of(system=system), sorted(written))
+            self.assertEqual(told, wanted)
+            self.assertEqual(written_of(system=system), wanted)
+        self.assertEqual(wanted, list(range(8)))
 
-    def test_only_numbers_of_its_changes(self):
-        self.assertEqual(written_of(StandIn([], [0, 1])), [])
-        self.assertEqual(written_of(StandIn(CHANGES[4:6], [3, 4, 5, 6])), [4, 5])
-
-    def test_numbers_not_places(self):
-        changes = [(10, 0, ((0, True),), ()), (SIXTY_FIGURES, 0, ((0, False),), ())]
-        self.assertEqual(written_of(StandIn(changes, [SIXTY_FIGURES])), [SIXTY_FIGURES])
-        self.assertEqual(written_of(StandIn(changes, [0, 1, 10])), [10])
+    def test_of_systems_without_changes(self):
+        system = System(FIRST)
+        self.assertEqual(written_of(system), [])
+        system.write(0)
+        self.assertEqual(written_of(system), [])
 
     def test_told_lists_are_new(self):
-        system = StandIn(CHANGES, [1, 2])
-        written_of(system).append(5)
-        self.assertEqual(written_of(system), [1, 2])
+        system = self.begun()
+        system.clean()
+        written_of(system).append(99)
+        self.assertEqual(written_of(system), list(range(8)))
         self.assertIsNot(written_of(system), written_of(system))
+
+    def test_the_system_stays(self):
+        system = self.begun()
+        system.write(0)
+        twin = system.twin()
+        written_of(system)
+        self.assertEqual((system, system.changes(), system.writings()), (twin, twin.changes(), twin.writings()))
 
     def test_what_is_written_puts_the_disk(self):
         chance = random.Random(4)
         for _ in range(60):
-            written, disk = [], FIRST
-            for _ in range(chance.randint(0, 9)):
-                left = [change for change in CHANGES if change[0] not in written]
-                along = goes_along(left, chance.randrange(disk_pages(FIRST)))
-                disk = put_on(disk, chosen(CHANGES, along))
-                written += along
-            told = written_of(StandIn(CHANGES, written))
-            self.assertIs(is_closed(CHANGES, told), True)
-            self.assertEqual(put_on(FIRST, chosen(CHANGES, told)), disk)
-            self.assertLessEqual(set(put_by(FIRST, CHANGES, disk)), set(told))
+            image = any_first(chance)
+            system = System(image)
+            for _ in range(chance.randint(0, 30)):
+                refused(system, any_deed(chance, system))
+                system.write(chance.randrange(disk_pages(image)))
+            changes, told = system.changes(), written_of(system)
+            left = [change[0] for change in system.unwritten()]
+            self.assertEqual(told, [change[0] for change in changes if change[0] not in left])
+            self.assertIs(is_closed(changes, told), True)
+            self.assertEqual(put_on(image, chosen(changes, told)), system.disk())
+            self.assertLessEqual(set(put_by(image, changes, system.disk())), set(told))
 
 
 if __name__ == "__main__":

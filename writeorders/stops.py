@@ -3,21 +3,15 @@
 from writeorders.changes import closed_of, put_on
 from writeorders.errors import Broken
 from writeorders.images import disk_pages, slots_of
-from writeorders.looker import breaks, come_to, names_of
-from writeorders.trees import Tree
+from writeorders.looker import breaks
+from writeorders.seen import tree_on
 
 
 def tree_of(image):
     """The plain tree of an image that hangs together; or Broken."""
     if breaks(image):
         raise Broken()
-    _, nodes, data = image
-    kinds = {node: nodes[node][0] for node in come_to(image)}
-    texts = {node: [data[page][1] for page in nodes[node][2]] for node in kinds if kinds[node] == "file"}
-    kids = {node: dict(names_of(image, node)) for node in kinds if kinds[node] == "folder"}
-    tree = Tree()
-    tree.filled(kinds, texts, kids)
-    return tree
+    return tree_on(image)
 
 
 def put_by(image, changes, later):
