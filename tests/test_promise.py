@@ -7,12 +7,14 @@ from tests.small_images import leaks_by_words, sound_image
 from tests.systems import any_deed, any_first, any_page, refused, state
 from tests.test_changes import elder_ones, leans_within
 from writeorders.changes import is_closed, put_on
-from writeorders.errors import Full
+from writeorders.errors import Full, NoLeak
 from writeorders.images import disk_pages, first_image
 from writeorders.looker import breaks, come_to, leaks, names_of
+from writeorders.mender import Mender
 from writeorders.rules import RULES, broken_without
 from writeorders.stops import put_by, tree_of, written_of
 from writeorders.system import System
+from writeorders.wishes import wish
 
 
 def small(chance):
@@ -20,7 +22,7 @@ def small(chance):
     return first_image(chance.randint(2, 6), chance.randint(1, 4))
 
 
-class Promise(unittest.TestCase):
+class PromiseTest(unittest.TestCase):
     def hangs_together(self, system):
         """(b): nothing breaks on the disk, and all that is written is there."""
         disk = system.disk()
@@ -65,6 +67,19 @@ class Promise(unittest.TestCase):
         self.is_closed_behind_the_first(image, system)
         return system
 
+    def all_dropped(self, system):
+        while system.paths():
+            for path in reversed(system.paths()):
+                # What stands too deep for a deed is moved up, where all has room again.
+                if len(path) > 6:
+                    system.clean()
+                    system.do(("move", path[:4], ("zzzzzzzz",)))
+                    break
+                refused(system, ("drop", path))
+        system.clean()
+
+
+class Promise(PromiseTest):
     def test_rows_in_many_orders(self):
         chance = random.Random(111)
         for _ in range(120):
@@ -106,16 +121,6 @@ class Promise(unittest.TestCase):
             self.assertEqual([node for node in nodes[1:] if node is not None], [])
             self.assertEqual([page for page, bit in enumerate(taken) if bit], sorted(nodes[0][2]))
             self.assertEqual(leaks(system.disk()), [])
-
-    def all_dropped(self, system):
-        while system.paths():
-            for path in reversed(system.paths()):
-                # A folder at a deep place may be too far for a deed.
-                if len(path) > 6:
-                    system.do(("move", path[:-2], ("zzzzzzzz",)))
-                    break
-                refused(system, ("drop", path))
-        system.clean()
 
     def test_what_is_written_is_read_back(self):
         chance = random.Random(116)
@@ -205,6 +210,81 @@ class AtTwoPlaces(unittest.TestCase):
                     if chance.random() < 0.4:
                         system.write(any_page(chance, system))
                         self.assertEqual(breaks(system.disk()), [])
+
+
+class WithMender(PromiseTest):
+    """The same, with wishes and mendings between, from one stop to the next: (e) too."""
+
+    def life(self, chance, image, times):
+        """Deeds, writings, wishes and mendings on an image; the system and its mender."""
+        system, tree = System(image), tree_of(image)
+        mender = Mender(system)
+        wished = {}
+        for _ in range(times):
+            self.step(chance, system, mender, tree, wished)
+            self.assertEqual(system.tree(), tree)
+            self.assertEqual(sorted(mender.leaks() + mender.mended()), leaks(image))
+            self.wished_is_there(system, wished)
+            self.hangs_together(system)
+        self.leanings_make_no_ring(system)
+        self.is_closed_behind_the_first(image, system)
+        return system, mender
+
+    def step(self, chance, system, mender, tree, wished):
+        dice = chance.random()
+        if dice < 0.3:
+            system.write(any_page(chance, system))
+        elif dice < 0.4:
+            path = chance.choice([()] + system.paths())
+            wish(system, path)
+            self.assertEqual(tree_of(system.disk()).sort_at(path), system.sort_at(path))
+            wished[system.node_of(path)] = True
+        elif dice < 0.55 and len(mender):
+            try:
+                mender.mend(chance.choice(mender.leaks()))
+            except NoLeak:
+                self.assertIn("node", [leak[0] for leak in mender.leaks()])
+        else:
+            deed = any_deed(chance, system)
+            met = refused(system, deed)
+            if met is None or met[0] is not Full:
+                self.assertEqual(refused(tree, deed), met)
+
+    def wished_is_there(self, system, wished):
+        """(c): by a name it is come to on the disk, as long as a name of it stands in memory."""
+        memory, disk = come_to(system.memory()), come_to(system.disk())
+        for node in list(wished):
+            if node not in memory:
+                del wished[node]
+        self.assertLessEqual(set(wished), set(disk))
+
+    def test_from_one_stop_to_the_next(self):
+        chance = random.Random(118)
+        for at in range(80):
+            image = small(chance) if at % 2 else any_first(chance)
+            for _ in range(4):
+                system, mender = self.life(chance, image, 20)
+                image = system.disk()
+            while len(mender):
+                mender.mend(mender.leaks()[-1])
+            self.all_dropped(system)
+            taken, nodes, _ = system.disk()
+            self.assertEqual([node for node in nodes[1:] if node is not None], [])
+            self.assertEqual([page for page, bit in enumerate(taken) if bit], sorted(nodes[0][2]))
+            self.assertEqual((nodes[0][1], leaks(system.disk())), (1, []))
+
+    def test_a_file_that_was_wished_and_a_name_of_it(self):
+        # Without moved, held or way a wished file is lost by the told steps, and not with all rules.
+        for word in ("moved", "held", "way"):
+            steps, path = broken_without(word)
+            last = max(at for at, step in enumerate(steps) if step == ("clean",))
+            for without, there in (((word,), False), ((), True)):
+                system = System(first_image(8, 8), without=without)
+                system.play(steps[:last])
+                wish(system, path)
+                system.play(steps[last:])
+                tree = tree_of(system.disk())
+                self.assertEqual(any(one[-1] == path[-1] for one in tree.paths()), there)
 
 
 if __name__ == "__main__":

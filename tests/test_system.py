@@ -522,7 +522,8 @@ class Playing(SystemTest):
         system = system_of([("make", ("z",))])
         things = things_of_any_kind() + [
             (), ("do",), ("do", ("make", ("y",)), 1), ["do", ("make", ("y",))], ("write",), ("write", 0, 0),
-            ("clean", 0), ["clean"], "clean", ("Clean",), ("play", []), (["clean"],), (Prickly(), 0), (b"clean",), (None,), ("", 0),
+            ("clean", 0), ["clean"], "clean", ("Clean",), ("play", []), (["clean"],), (Prickly(), 0), (b"clean",),
+            (None,), ("", 0),
         ]
         for thing in things:
             for at in range(3):
