@@ -189,6 +189,28 @@ class Language(unittest.TestCase):
                 if isinstance(part, ast.Name) and part.id in dir(builtins):
                     self.assertIn(part.id, BUILTINS, (name, part.lineno))
 
+    def test_no_local_name_is_that_of_an_import_or_a_class(self):
+        for name, tree in trees().items():
+            taken = {alias.asname or alias.name for part in tree.body if isinstance(part, ast.ImportFrom)
+                     for alias in part.names}
+            taken |= {part.name for part in tree.body if isinstance(part, ast.ClassDef)}
+            for part in ast.walk(tree):
+                if isinstance(part, ast.arg):
+                    self.assertNotIn(part.arg, taken, name)
+                elif isinstance(part, ast.Name) and isinstance(part.ctx, ast.Store):
+                    self.assertNotIn(part.id, taken, name)
+
+    def test_sets_are_measured_sorted_or_asked_at_once(self):
+        for name, tree in trees().items():
+            allowed = []
+            for part in ast.walk(tree):
+                if isinstance(part, ast.Call) and isinstance(part.func, ast.Name) and part.func.id in ("sorted", "len"):
+                    allowed.extend(part.args)
+            for part in ast.walk(tree):
+                self.assertNotIsInstance(part, (ast.Set, ast.SetComp, ast.GeneratorExp), name)
+                if isinstance(part, ast.Call) and isinstance(part.func, ast.Name) and part.func.id == "set":
+                    self.assertIn(part, allowed, (name, part.lineno))
+
     def test_methods(self):
         own = {part.name for tree in trees().values() for part in ast.walk(tree) if isinstance(part, ast.FunctionDef)}
         for name, tree in trees().items():

@@ -29,6 +29,11 @@ class PromiseTest(unittest.TestCase):
         self.assertEqual(breaks(disk), [])
         self.assertEqual(leaks(disk), leaks_by_words(disk))
         tree_of(disk)
+        # What is free in memory is had, and led to, by nothing that is come to on the disk (12).
+        taken, nodes, _ = system.memory()
+        for node in come_to(disk):
+            self.assertTrue(all(taken[page] for page in disk[1][node][2]))
+            self.assertIsNotNone(nodes[node])
 
     def is_closed_behind_the_first(self, image, system):
         """(c): the image is the first one with some changes put on, and with each all that it needs."""

@@ -74,6 +74,12 @@ class Written(TextsTest):
             self.assertEqual(shown(image).split("\n")[3], "file " + text)
             self.assertEqual(read(shown(image)), image)
 
+    def test_names(self):
+        for name in ("a", "z", "az", "za", "abcdefgh", "stuvwxyz", "free", "empty", "file"):
+            image = image_of([folder(1, 0), file(1)], [("folder", None, (name, 1), None, None)])
+            self.assertEqual(shown(image).split("\n")[3], f"folder - {name}=1 - -")
+            self.assertEqual(read(shown(image)), image)
+
     def test_each_image_has_another_text(self):
         images = set(many_images(any_image, 143, 300))
         self.assertEqual(len({shown(image) for image in images}), len(images))

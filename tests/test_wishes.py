@@ -193,6 +193,16 @@ class Wishes(WishTest):
             system.do(("put", ("a",), 0, text))
         self.wishes(system, ("a",), 4)
 
+    def test_bits_are_wanted_whatever_leans_on_them(self):
+        for without, pages in (((), [0, 3, 1, 3]), (("taken",), [0, 3, 1, 3])):
+            system = System(FIRST, without=without)
+            system.do(("make", ("a",)))
+            self.assertEqual(wish(system, ()), pages)
+        system = System(FIRST, without=("taken",))
+        system.do(("make", ("a",)))
+        # The file has no page, and nothing of it leans on the bit of its folder's.
+        self.assertEqual(wish(system, ("a",)), [3, 1, 3])
+
     def test_told_lists_are_new(self):
         system = system_of(("make", ("a",)))
         wish(system, ("a",)).append("new")

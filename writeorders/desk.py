@@ -63,9 +63,11 @@ class Desk:
     def _mend_all(self):
         mender = Mender(self._system)
         # A bit that a leaking node points to is mended with that one.
-        for leak in [row for row in mender.leaks() if row[0] != "bit"]:
+        others = [leak for leak in mender.leaks() if leak[0] != "bit"]
+        for leak in others:
             mender.mend(leak)
-        for leak in mender.leaks():
+        bits = mender.leaks()
+        for leak in bits:
             mender.mend(leak)
         return len(mender.mended())
 
